@@ -7,8 +7,8 @@ from juststeps.rows import is_plain
 class Facts:
     """What is known on the way to a row.
 
-    known has as which maker with which args variables are known; seen has what plain rows, and the branches of
-    matches, have reckoned, with the row where they did.
+    known has the variables of which it is known by which maker they are made; seen has what plain rows, and the
+    branches of matches, have reckoned, with the row where they did.
     """
 
     def __init__(self, known, seen):
@@ -19,10 +19,9 @@ class Facts:
         return Facts(dict(self.known), dict(self.seen))
 
     def learn(self, at, variable, reckoning):
-        """Keeps what the first row of the way tells."""
-        self.seen.setdefault(reckoning, at)
+        self.seen[reckoning] = at
         if reckoning[0] == "make":
-            self.known.setdefault(variable, reckoning[1:])
+            self.known[variable] = True
 
 
 def first_step(function):

@@ -41,8 +41,7 @@ class RowJudge:
         self.waiting = []
 
     def judge(self, params):
-        if not self.bind_all(tuple(range(len(params))), params):
-            return False
+        self.bind_all(tuple(range(len(params))), params)
         for at, row in enumerate(self.rows):
             if not self.enter(at) or not self.accept(at, row):
                 return False

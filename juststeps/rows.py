@@ -35,9 +35,7 @@ def used_by(row):
 
 
 def goes_on(row, at):
-    """The ascending tuple of the rows that the row at an index goes on to."""
-    if row[0] in ENDING:
-        return ()
+    """The ascending tuple of the rows that the row at an index, which is no end, goes on to."""
     if row[0] == "less":
         return (at + 1, row[3])
     if row[0] == "match":

@@ -31,7 +31,7 @@ class Other:
 
 # Objects that are no program, core, text, tuple, str or integer of any promise.
 STRANGE = (None, True, False, -1, 7, "", "x", "(", b"", b"x", [], {}, (), (1,), ("x",), [()], {"a": 1}, {1}, Other(),
-           Other, len, ((), (), ()), ([], []), ((), []), ([], ()), ((None,), ()), ((), (None,)))
+           Other, len, (Other(),), (Other(),) * 2, (Other(),) * 3, (Other(),) * 4, ((),), ((), (), ()), ([], []), ((), []), ([], ()), ((None,), ()), ((), (None,)))
 
 
 def nested(depth, inner=()):

@@ -4,7 +4,7 @@ import unittest
 
 from juststeps import errors
 from juststeps.cores import event_rows, is_core, way
-from tests.helper import BOX, JOIN, JOIN_ROWS, ROW, STRANGE, core_of, nested, part_at, places_of, with_part
+from tests.helper import BOX, JOIN, JOIN_ROWS, ROW, STRANGE, Other, core_of, nested, part_at, places_of, with_part
 
 GIVE = (("num", 0, 1), ("give", 0))
 
@@ -60,11 +60,16 @@ class IsCoreTest(CoreCase):
 
         good = ("f", ("whole",) * 6, "whole", (("give", 0),))
         self.assertTrue(is_core(core(good)))
+        end = (("num", 9, 1), ("give", 9))
         for head in (("F", (), "whole"), ("whole", (), "whole"), (7, (), "whole"), ("f", ("whole",) * 7, "whole"),
                      ("f", ["whole"], "whole"), ("f", ("Nil",), "whole"), ("f", ("Box",), "whole"), ("f", (), "Cons"),
-                     ("f", (), "Other"), ("f", (), None), ("f", (None,), "whole"), ("f", "whole", "whole"), ("f", ())):
-            self.assertFalse(is_core(core(head + (GIVE,))), head)
-            self.assertFalse(is_core(core(list(head + (GIVE,)))), head)
+                     ("f", (), "Other"), ("f", (), None), ("f", (None,), "whole"), ("f", (Other(),), "whole"), ("f", (), Other()), ("f", "whole", "whole"),
+                     ("f", ("whole",))):
+            self.assertFalse(is_core(core(head + (end,))), head)
+            self.assertFalse(is_core(core(list(head + (end,)))), head)
+        self.assertTrue(is_core(core(("f", ("Row",), "whole", end))))
+        self.assertFalse(is_core(core(["f", ("Row",), "whole", end])))
+        self.assertFalse(is_core(core(("f", ("Row",), "whole"))))
         self.assertFalse(is_core(core(good + (1,))))
 
     def test_functions(self):
@@ -97,14 +102,14 @@ class IsCoreTest(CoreCase):
         self.assertTrue(is_core(core))
         for place in places_of(core):
             part = part_at(core, place)
-            others = [None, [], 10 ** 13, True, "", "no name", (None,), {}, -1, 400]
+            others = [None, [], 10 ** 13, True, "", "no name", (None,), {}, -1, 400, Other()]
             if isinstance(part, tuple):
                 others += [list(part), part + (None,), part[:-1] if part else None]
             for other in others:
                 # The number of a num and the factor of a times may be others.
-                if other in (-1, 400) and part in (7, -5) and place[-1] > 1:
+                if other in (-1, 400) and part in (7, -5) and place[-1] > 1 and not isinstance(other, Other):
                     continue
-                if other == () and place in ((1,), (0, 0, 1, 0, 1), (1, 0, 3, 7, 2, 0, 1)):
+                if isinstance(other, tuple) and other == () and place in ((1,), (0, 0, 1, 0, 1), (1, 0, 3, 7, 2, 0, 1)):
                     continue
                 self.assertIs(is_core(with_part(core, place, other)), False, (place, other))
 
@@ -155,8 +160,10 @@ class IsCoreTest(CoreCase):
         self.assert_core(True, (("less", 0, 0, 2), end, end), ("whole",))
         for start in (0, 1, 3, 4, -1, True, "2", None):
             self.assert_core(False, (("less", 0, 0, start), end, end), ("whole",))
-        self.assert_core(False, (("less", 0, 1, 2), end, end), ("whole", "Row"))
-        self.assert_core(False, (("less", 1, 0, 2), end, end), ("whole", "Row"))
+        for wrong in (("less", 0, 1, 2), ("less", 1, 0, 2), ("less", 0, 0), ("less", 0, 0, 2, 2), ("less", 0, 0, 9),
+                      ("less", 0, 0, Other())):
+            for ends in ((), (end,), (end, end)):
+                self.assert_core(False, (wrong,) + ends, ("whole", "Row"))
         self.assert_core(True, (("less", 0, 0, 4), ("less", 0, 0, 3), end, end, end), ("whole",))
         self.assert_core(False, (("less", 0, 0, 3), ("less", 0, 0, 3), end, end, end), ("whole",))
         self.assert_core(False, (("less", 0, 0, 3), ("less", 0, 0, 4), end, end, end), ("whole",))
@@ -165,6 +172,8 @@ class IsCoreTest(CoreCase):
     def test_layout(self):
         end, number = ("give", 0), ("num", 1, 1)
         self.assert_core(False, (end, end), ("whole",))
+        self.assert_core(False, (("go", "f", (0,)), end), ("whole",))
+        self.assert_core(False, (("less", 0, 0, 3), ("go", "f", (0,)), end, end), ("whole",))
         self.assert_core(False, (number,), ("whole",))
         self.assert_core(False, (end, number), ("whole",))
         self.assert_core(False, (("call", 1, "f", (0,)),), ("whole",))
@@ -188,10 +197,13 @@ class IsCoreTest(CoreCase):
                          (nil, ("Cons", (0, 3), 2)), (nil, ("Cons", (2, 400), 2)), (nil, ("Cons", (2, True), 2)),
                          (nil, ("Cons", (2, 3), 1)), (nil, ("Cons", (2, 3), 3)), (("Nil", (), 2), ("Cons", (2, 3), 1)),
                          (("Nil", (), True), cons), (("Nil", (), 0), cons), (nil, ("Cons", (2, 3)))):
-            self.assert_core(False, rows(*branches), ("whole", "Row"))
-        self.assert_core(False, (("match", 0, (nil, cons)), end, end), ("whole", "Row"))
-        self.assert_core(False, (("match", 9, (nil, cons)), end, end), ("whole", "Row"))
-        self.assert_core(False, (("match", 1, list((nil, cons))), end, end), ("whole", "Row"))
+            for many in (1, 2, 3):
+                self.assert_core(False, rows(*branches)[:many], ("whole", "Row"))
+        for wrong in (("match", 0, (nil, cons)), ("match", 9, (nil, cons)), ("match", 1, [nil, cons]), ("match", 1),
+                      ("match", 1, (nil, cons), 2), ("match", 1, (nil, ("Cons", (2, 3), Other()))),
+                      ("match", 1, ((Other(), (), 1), cons)), ("match", 1, (("Nil", (), Other()), cons))):
+            for ends in ((), (end,), (end, end)):
+                self.assert_core(False, (wrong,) + ends, ("whole", "Row"))
         self.assert_core(True, (("match", 1, (("Box", (2,), 1),)), ("give", 2)), ("whole", "Box"))
         self.assert_core(False, (("match", 1, (("Box", (2,), 2),)), end, end), ("whole", "Box"))
         self.assert_core(False, (("match", 1, (("Box", (2,), 1),)), end, end), ("whole", "Box"))

@@ -4,7 +4,7 @@ import unittest
 
 from juststeps import errors
 from juststeps.programs import is_program, read_program, write_program
-from tests.helper import JOIN_TEXT, ROW, STRANGE, Maker, nested, part_at, places_of, with_part
+from tests.helper import JOIN_TEXT, ROW, STRANGE, Maker, Other, nested, part_at, places_of, with_part
 
 ONE = ("num", 1)
 GIVE = ("give", ONE)
@@ -114,12 +114,13 @@ class IsProgramTest(unittest.TestCase):
             self.assertFalse(is_program(of_term(("times", number, ONE))))
 
     def test_signs(self):
-        for sign, right in (("+", True), ("-", True), ("*", False), ("", False), ("+-", False), (None, False)):
+        for sign, right in (("+", True), ("-", True), ("*", False), ("", False), ("+-", False), (None, False),
+                            (Other(), False)):
             self.assertIs(is_program(of_term(("op", sign, ONE, ONE))), right)
 
     def test_at_most_a_hundred_parts(self):
         self.assertTrue(is_program(of_body(("let", "x", ONE, bodies_of_parts(97)))))
-        self.assertFalse(is_program(of_body(("let", "x", ONE, ("let", "x", ONE, bodies_of_parts(97))))))
+        self.assertFalse(is_program(of_body(("let", "x", chain(2), bodies_of_parts(97)))))
 
     def test_what_counts_among_a_hundred(self):
         # A wide branch has five names, a give, a call and six numbers: 13, seven of them 91. The match, the call
@@ -166,7 +167,7 @@ class IsProgramTest(unittest.TestCase):
         self.assertTrue(is_program(program))
         for place in places_of(program):
             part = part_at(program, place)
-            others = [None, [], 10 ** 13, True, "", "no name", ("no body",), {}]
+            others = [None, [], 10 ** 13, True, "", "no name", ("no body",), {}, Other()]
             if isinstance(part, tuple):
                 others += [list(part), part + (None,)]
             for other in others:
@@ -182,9 +183,20 @@ class IsProgramTest(unittest.TestCase):
             self.assertIs(is_program(of_body(body)), False, body)
         for term in ([], ["num", 1], ("Num", 1), ("num",), ("num", 1, 1), ("name", "X"), ("name", "if"), ("name",),
                      ("op", "+", ONE), ("op", "+", ONE, ONE, ONE), ("op", "+", ONE, GIVE), ("times", 2, GIVE),
-                     ("times", ONE, 2), ("make", "a", ()), ("make", "A", []), ("make", "A"), ("call", "F", ()),
+                     ("times", ONE, 2), ("times", 2), ("times", 2, ONE, ONE), ("make", "a", ()), ("make", "A", []), ("make", "A"), ("call", "F", ()),
                      ("call", "f", [ONE]), ("call", "f", (GIVE,)), ("make", "A", (GIVE,)), GIVE):
             self.assertIs(is_program(of_term(term)), False, term)
+
+
+    def test_tuples_that_are_too_short(self):
+        maker, branch, param = ("A", ("whole",)), ("A", ("x",), GIVE), ("x", "whole")
+        for program in (
+            ((),), (((("A",),)), ()), ((("A", (maker[:1],)),), ()), ((), (function()[:3],)), ((), (function()[:1],)),
+            ((), (function(params=(param[:1],)),)), of_body(("match", ONE, (branch[:2],))),
+            of_body(("match", ONE, (branch[:1],))), of_body(()), of_term(()),
+        ):
+            self.assertIs(is_program(program), False, program)
+        self.assertTrue(is_program(((("A", (maker,)),), (function(("match", ONE, (branch,)), params=(param,)),))))
 
 
 class WriteTest(unittest.TestCase):
@@ -353,6 +365,9 @@ class BadTextTest(unittest.TestCase):
         self.assert_marked("def f#_ ( ) : whole { give 5 }")
         self.assert_marked("def f ( )#\t: whole { give 5 }")
         self.assert_marked("def #\u00e9 ( ) : whole { give 5 }")
+        self.assert_marked("def f#\u00e9 ( ) : whole { give 5 }")
+        for sign in map(chr, range(33, 127)):
+            self.assertEqual(self.place(" " + sign), 1)
         self.assert_term("#\u00b2")
         self.assert_term("#\u0665")
 

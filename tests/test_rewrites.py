@@ -103,6 +103,18 @@ class DecideTest(StepCase):
             ("num", 1, 1), ("less", 0, 1, 7), ("less", 0, 0, 4), END, ("num", 5, 2), ("num", 2, 5), ("give", 2),
             ("num", 4, 7), ("give", 4)))
 
+    def test_branches_that_end_with_a_go(self):
+        go = ("go", "f", (0,))
+        rows = (("less", 0, 0, 7), ("num", 1, 1), ("less", 1, 1, 5), ("num", 2, 5), go, ("num", 3, 6), go,
+                ("num", 4, 7), go)
+        self.assert_step(("decide", 2), rows, (
+            ("less", 0, 0, 4), ("num", 1, 1), ("num", 3, 6), go, ("num", 4, 7), go))
+        rows = rows[:1] + (("num", 1, 1), ("times", 2, 0, 3), ("add", 9, 0, 0), go) + rows[7:]
+        rows = (("less", 0, 0, 5),) + rows[1:]
+        self.assert_step(("drop", 1), rows, (("less", 0, 0, 4),) + rows[2:])
+        rows = (("num", 1, 1), ("num", 2, 2), ("less", 1, 2, 4), go, go)
+        self.assert_step(("decide", 2), rows, rows[:2] + (go,))
+
     MATCH = (("make", 2, "Cons", (0, 1)), ("match", 2, (("Nil", (), 2), ("Cons", (3, 4), 4))), ("num", 5, 1),
              ("give", 5), ("call", 6, "f", (3, 4)), ("add", 7, 6, 3), ("give", 7))
     BOTH = ("whole", "Row")
@@ -177,6 +189,15 @@ class DropTest(StepCase):
         match = ("match", 1, (("Nil", (), 2), ("Cons", (2, 3), 3)))
         self.assert_not(("drop", 0), (("make", 1, "Nil", ()), match, END, END))
 
+    def test_a_number_that_is_no_variable_does_not_count_as_used(self):
+        rows = (("num", 3, 1), ("less", 0, 0, 3), END, END)
+        self.assert_step(("drop", 0), rows, (("less", 0, 0, 2), END, END))
+        rows = (("num", 3, 1), ("num", 1, 3), ("times", 2, 1, 3), ("go", "f", (2,)))
+        self.assert_step(("drop", 0), rows, rows[1:])
+        rows = (("num", 2, 1), ("match", 1, (("Nil", (), 2), ("Cons", (3, 4), 3))), END, END)
+        self.assert_step(("drop", 0), rows, (
+            ("match", 1, (("Nil", (), 1), ("Cons", (3, 4), 2))), END, END), ("whole", "Row"))
+
     def test_event_rows(self):
         rows = (("call", 1, "f", (0,)), ("less", 0, 0, 3), END, END)
         for at in range(4):
@@ -215,6 +236,13 @@ class ReuseTest(StepCase):
         rows = (("make", 0, "Nil", ()), ("make", 1, "Nil", ()), ("match", 1, match), ("give", 0), ("give", 1))
         self.assert_step(("reuse", 1, 0), rows, (
             rows[0], ("match", 0, (("Nil", (), 2), ("Cons", (2, 3), 3))), ("give", 0), ("give", 0)), (), "Row")
+
+    def test_numbers_that_are_no_variables_stay(self):
+        rows = (("num", 1, 2), ("num", 2, 2), ("num", 4, 2), ("times", 3, 2, 2), ("times", 5, 0, 2), ("less", 0, 2, 7),
+                END, ("add", 6, 3, 5), ("give", 6))
+        self.assert_step(("reuse", 1, 0), rows, (
+            ("num", 1, 2), ("num", 4, 2), ("times", 3, 1, 2), ("times", 5, 0, 2), ("less", 0, 1, 6), END,
+            ("add", 6, 3, 5), ("give", 6)))
 
     def test_rows_that_are_not_equal(self):
         for first, second in ((("num", 1, 5), ("num", 2, 6)), (("add", 1, 0, 0), ("sub", 2, 0, 0)),
@@ -342,6 +370,13 @@ class OpenTest(StepCase):
             if rows[2][0] == "match":
                 wanted = wanted[:3] + (("match", 1, (("Nil", (), 4), ("Cons", (2, 40), 5))),) + rows[3:]
             self.assert_step(("open", 1), rows, wanted, ("whole", "Row"), more=(g,))
+
+    def test_numbers_of_rows_that_come_in_stay(self):
+        g = ("g", ("whole",), "whole", (("num", 1, 1), ("times", 2, 1, 1), ("times", 3, 0, 2), ("less", 2, 3, 5),
+                                        ("give", 2), ("give", 3)))
+        self.assert_step(("open", 1), (("num", 1, 7), ("go", "g", (1,))), (
+            ("num", 1, 7), ("num", 2, 1), ("times", 3, 2, 1), ("times", 4, 1, 2), ("less", 3, 4, 6), ("give", 3),
+            ("give", 4)), more=(g,))
 
     def test_a_function_without_variables(self):
         g = ("g", (), "whole", (("num", 7, 1), ("give", 7)))
@@ -570,6 +605,30 @@ class ImproveTest(unittest.TestCase):
         ):
             _, log = self.assert_improved(core_of(rows, params))
             self.assertIn(rule, [step[0] for step in log], rows)
+
+    def test_what_branches_share_and_what_not(self):
+        row = ("times", 9, 0, 2)
+        rows = (("less", 0, 0, 3), ("times", 1, 0, 2), ("give", 1), ("times", 2, 0, 2), ("give", 2))
+        core = core_of(rows, ("whole",))
+        self.assertEqual(self.assert_improved(core), (core, ()))
+        for at in (1, 3):
+            both = (("add", 8, 0, 0), ("less", 0, 8, 4)) + rows[1:]
+            again = ("add", both[at + 1][1], 0, 0)
+            both = both[:at + 1] + (again,) + both[at + 2:]
+            _, log = self.assert_improved(core_of(both, ("whole",)))
+            self.assertEqual(log, (("reuse", "f", at + 1, 0),))
+        match = ("match", 1, (("Nil", (), 2), ("Cons", (2, 3), 3)))
+        rows = (("less", 0, 0, 4), match, END, END, ("match", 1, (("Nil", (), 5), ("Cons", (4, 5), 6))), END, END)
+        core = core_of(rows, ("whole", "Row"))
+        self.assertEqual(self.assert_improved(core), (core, ()))
+        rows = (("match", 1, (("Nil", (), 1), ("Cons", (2, 3), 3))), row, ("give", 9), ("make", 4, "Nil", ()),
+                ("go", "f", (2, 4)))
+        core = core_of(rows, ("whole", "Row"))
+        self.assertEqual(self.assert_improved(core), (core, ()))
+        rows = (("less", 0, 0, 3), ("make", 2, "Nil", ()), ("go", "f", (0, 2)), ("make", 3, "Nil", ()),
+                ("go", "f", (0, 3)))
+        core = core_of(rows, ("whole", "Row"))
+        self.assertEqual(self.assert_improved(core), (core, ()))
 
     def test_made_cores(self):
         for seed in range(40):
