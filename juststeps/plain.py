@@ -65,6 +65,16 @@ def need_prices(core, thing):
             raise BadPrices("None or a price is wanted for each row, None for a plain one")
 
 
+def need_args(core, place, thing):
+    """Raises BadArgs for any object that is no arguments of the function at a place of the core."""
+    params = core[1][place][1]
+    makers = makers_by_name(core[0])
+    if not is_tuple(thing, len(params), len(params)):
+        raise BadArgs("a value for each param is wanted")
+    if not all([are_words(makers, kind, words, MOST_GIVEN) for kind, words in zip(params, thing)]):
+        raise BadArgs("words of a value of the param's kind are wanted")
+
+
 def _is_price_of(row, thing):
     if thing is None:
         return True
@@ -76,14 +86,10 @@ def _is_price_of(row, thing):
 def _demanded_run(core, name, args, limit):
     """The run, behind the errors of its arguments; the core is judged already."""
     place = place_of(core, name)
-    params = core[1][place][1]
-    makers = makers_by_name(core[0])
-    if not is_tuple(args, len(params), len(params)):
-        raise BadArgs("a value for each param is wanted")
-    if not all([are_words(makers, kind, words, MOST_GIVEN) for kind, words in zip(params, args)]):
-        raise BadArgs("words of a value of the param's kind are wanted")
+    need_args(core, place, args)
     if not is_between(limit, 0, MOST_LIMIT):
         raise BadLimit("an integer from 0 to 20000 is wanted")
+    makers = makers_by_name(core[0])
     return run_of(core, place, [value_of(makers, words) for words in args], limit)
 
 

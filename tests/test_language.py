@@ -17,7 +17,11 @@ INTERFACE = {
     "plain": ("is_value(core, kind, thing)", "run_plain(core, name, args, limit)", "passed(core, name, args, limit)",
               "run_priced(core, prices, name, args, limit)"),
     "rewrites": ("rewritten(core, step)", "replayed(core, log)", "improve(core, most)"),
+    "images": ("is_image(thing)", "fits(core, image)", "write_image(image)", "read_image(text)"),
+    "machine": ("run_image(core, image, name, args, limit)", "trace_image(core, image, name, args, limit)"),
+    "plaincode": ("plain_code(core)", "plain_table(core)"),
 }
+LIBRARY = {"heapq": ("heappush", "heappop"), "math": ("gcd", "lcm")}
 BUILTINS = ("len range enumerate zip min max sum abs sorted reversed int str bool bytes list tuple dict set frozenset "
             "isinstance ord repr any all divmod super ValueError").split()
 METHODS = ("append clear copy count endswith extend find get index insert isalnum isalpha isascii isdigit islower "
@@ -86,6 +90,9 @@ class NamesTest(unittest.TestCase):
                 self.assertNotIsInstance(node, ast.Import, stem)
                 if isinstance(node, ast.ImportFrom):
                     self.assertIn(node, tree.body, stem)
+                    if node.module in LIBRARY:
+                        self.assert_only_called(stem, tree, [alias.name for alias in node.names], LIBRARY[node.module])
+                        continue
                     package, _, name = node.module.partition(".")
                     self.assertEqual((package, node.level), ("juststeps", 0), stem)
                     self.assertIn(name, TREES)
@@ -99,6 +106,15 @@ class NamesTest(unittest.TestCase):
             self.assertTrue(free, f"files that import from each other: {sorted(after)}")
             for stem in free:
                 del after[stem]
+
+    def assert_only_called(self, stem, tree, names, known):
+        called = [id(node.func) for node in ast.walk(tree) if isinstance(node, ast.Call) and not node.keywords]
+        for name in names:
+            self.assertIn(name, known, stem)
+            self.assertNotIn(name, [bound for bound in bound_names(tree) if bound not in names], stem)
+        for node in ast.walk(tree):
+            if isinstance(node, ast.Name) and node.id in names:
+                self.assertIn(id(node), called, (stem, node.lineno))
 
     def bound_at_top(self, tree):
         for node in tree.body:
