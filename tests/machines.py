@@ -200,3 +200,15 @@ class Second:
         elif word == "return":
             self.done = not self.stack
             self.at = None if self.done else self.stack.pop()
+
+
+def value_for(random, core, kind, depth=4):
+    """The words of a value of any kind of the core; the first maker of a kind must not need the kind itself."""
+    if kind == "whole":
+        return (random.choice((0, 1, 2, 3, -4, 10 ** 15)),)
+    makers = dict(core[0])[kind]
+    maker, fields = makers[0] if depth <= 0 or random.random() < 0.35 else random.choice(makers)
+    words = (maker,)
+    for field in fields:
+        words += value_for(random, core, field, depth - 1)
+    return words

@@ -20,7 +20,13 @@ INTERFACE = {
     "images": ("is_image(thing)", "fits(core, image)", "write_image(image)", "read_image(text)"),
     "machine": ("run_image(core, image, name, args, limit)", "trace_image(core, image, name, args, limit)"),
     "plaincode": ("plain_code(core)", "plain_table(core)"),
+    "compiling": ("compile_core(core, effort)",),
+    "codejudge": ("judge_code(core, image)", "stretches(core, image)"),
+    "ratios": ("ratio(top, bottom)", "plus(a, b)", "minus(a, b)", "product(a, b)", "quotient(a, b)", "below(a, b)"),
+    "lines": ("keeps(system, thing)", "refutes(system, thing)", "is_least(system, line, thing)", "solve(system)",
+              "least(system, line)"),
 }
+CAUGHT = {"checks": "NotChecked", "codejudge": "Refused"}
 LIBRARY = {"heapq": ("heappush", "heappop"), "math": ("gcd", "lcm")}
 BUILTINS = ("len range enumerate zip min max sum abs sorted reversed int str bool bytes list tuple dict set frozenset "
             "isinstance ord repr any all divmod super ValueError").split()
@@ -177,9 +183,9 @@ class StatementsTest(unittest.TestCase):
         barred = (ast.Global, ast.AsyncFunctionDef, ast.Await, ast.Try, ast.With, ast.Yield, ast.YieldFrom, ast.Set,
                   ast.SetComp, ast.Div, ast.MatMult, ast.AnnAssign, ast.NamedExpr)
         for stem, node in nodes(barred):
-            # The one try of the package turns an error of its own into a result.
-            self.assertTrue(stem == "checks" and isinstance(node, ast.Try), (stem, node.lineno))
-            self.assertEqual([handler.type.id for handler in node.handlers], ["NotChecked"])
+            # A try of the package turns an error of its own into a result.
+            self.assertTrue(stem in CAUGHT and isinstance(node, ast.Try), (stem, node.lineno))
+            self.assertEqual([handler.type.id for handler in node.handlers], [CAUGHT[stem]])
 
     def test_is_stands_with_none_and_truths(self):
         for stem, node in nodes(ast.Compare):
