@@ -147,6 +147,10 @@ class SilentTest(JudgeCase):
         self.first_stuck([("push", 1), ("new", 3, 2), ("save", 0, 3), ("new", 5, 1), ("put", 5, 0, 3), ("load", 4, 0),
                           ("put", 4, 0, 0)])
         self.first_stuck([("new", 3, 2), ("put", 3, 0, 3)])
+        # A cell that is shut has no more words than it had.
+        self.silent([("new", 3, 2), ("new", 5, 1), ("put", 5, 0, 3), ("take", 6, 3, 1)])
+        self.first_stuck([("new", 3, 2), ("new", 5, 1), ("put", 5, 0, 3), ("take", 6, 3, 2)])
+        self.first_stuck([("new", 3, 1), ("new", 5, 1), ("put", 5, 0, 3), ("take", 6, 3, 63)])
         # It stays shut however it is taken out again.
         self.first_stuck([("new", 3, 2), ("new", 5, 1), ("put", 5, 0, 3), ("take", 6, 5, 0), ("put", 6, 0, 0)])
         # One that several hold is one: what is put into it stands in all.

@@ -306,6 +306,32 @@ class MergedTest(CompileCase):
         one, two = compile_core(core, 1), compile_core(core, 2)
         self.assertLess(len(two[1]), len(one[1]))
 
+    def test_equal_branches_that_branch_again(self):
+        lot = ("Lot", tuple((name, ()) for name in "ABCD"))
+        pick = ("Pick", (("Left", ()), ("Right", ())))
+        params = ("Lot", "whole", "whole", "Pick")
+        # Three rows each, the first one at that row.
+        less = lambda at: (("less", 1, 2, at + 2), ("give", 1), ("give", 2))
+        other = lambda at: (("less", 1, 2, at + 2), ("give", 2), ("give", 2))
+        turned = lambda at: (("less", 2, 1, at + 2), ("give", 1), ("give", 2))
+        match = lambda at: (("match", 3, (("Left", (), at + 1), ("Right", (), at + 2))), ("give", 1), ("give", 2))
+        for makes in ((less,) * 4, (match,) * 4, (less, match, less, match), (less, other, turned, less),
+                      (match, less, other, turned), (match, match, less, other)):
+            for ahead in ((), (("call", 399, "f", (0, 1, 2, 3)),)):
+                rows = ()
+                starts = []
+                for make in makes:
+                    starts.append(len(ahead) + 1 + len(rows))
+                    rows += make(starts[-1])
+                rows = ahead + (("match", 0, tuple((name, (), at) for name, at in zip("ABCD", starts))),) + rows
+                core = core_of(rows, params, kinds=(lot, pick))
+                # With a call ahead it is plain code that is merged.
+                self.assertEqual(self.assert_compiled(core), not ahead)
+                tables = [part[2] for part in compile_core(core, 2)[1] if part[0] == "table" and len(part[2]) == 4]
+                self.assertEqual([len(set(entries)) for entries in tables], [len(set(makes))])
+                one, two = compile_core(core, 1)[1], compile_core(core, 2)[1]
+                self.assertLess(len(two), len(one))
+
     def test_equal_branches_of_two_functions(self):
         rows = (("match", 0, (("Nil", (), 1), ("Cons", (2, 3), 2))), ("give", 1), ("add", 4, 1, 2), ("go", "g", (3, 4)))
         core = core_of(rows, ("Row", "whole"), more=(("g", ("Row", "whole"), "whole", rows),))

@@ -120,6 +120,20 @@ class JudgesTest(LineCase):
         self.assertFalse(is_least(THREE, line, ("paper", (0, 1, 2))))
         self.assertFalse(is_least(THREE, line, ("paper", (0, 1, 1), ())))
 
+    def test_is_least_of_multipliers_that_show_another_line(self):
+        # The consts would fit, but the terms are others.
+        point = ((1, 1), (2, 1))
+        for multipliers in ((4, 0), (0, 4), (1, 1)):
+            line = (1, ((0, 2), (1, 1)))
+            self.assertIs(is_least(S, line, ("least", point, 1, multipliers)), multipliers == (1, 1))
+        self.assertIs(is_least(S, (5, ((1, 1),)), ("least", point, 1, (-2, 0))), False)
+        # With the scale 0, or one below 0, anything would be least.
+        self.assertIs(is_least(S, (5, ()), ("least", point, 1, (0, 0))), True)
+        self.assertIs(is_least(S, (5, ()), ("least", point, 0, (0, 0))), False)
+        exact = (1, (((-1, ((0, 1),)), True),))
+        for scale in (1, 0, -1):
+            self.assertIs(is_least(exact, (0, ((0, 1),)), ("least", ((1, 1),), scale, (scale,))), scale == 1)
+
     def test_is_least_of_a_slope(self):
         line = (0, ((0, 1), (1, 2)))
         point = ((1, 1), (2, 1))
@@ -202,6 +216,34 @@ class SolveTest(LineCase):
             rows += tuple(((0, ((unknown, 1),)), False) for unknown in range(count))
             for order in (rows, rows[::-1]):
                 self.assert_least((count, order), made_line(random, count, 3))
+
+    def test_exchanges_that_do_go_round(self):
+        # With the steepest way down, and with the row that is broken most, these go round for ever.
+        for ahead, terms, line, found in (
+            (2, (((0, -1), (1, 11), (2, 5), (3, -18)), ((0, -1), (1, 3), (2, 1), (3, -2)), ((0, -2),)),
+             ((0, -20), (1, 114), (2, 18), (3, 48)), -1),
+            (100, (((0, -25), (1, 6000), (2, 4), (3, -900)), ((0, -50), (1, 9000), (2, 2), (3, -300)), ((2, -100),)),
+             ((0, -75), (1, 15000), (2, -2), (3, 600)), Fraction(-1, 20)),
+        ):
+            rows = tuple(((0, ((unknown, ahead),)), False) for unknown in range(4))
+            rows += tuple(((int(len(each) == 1), each), False) for each in terms)
+            result = self.assert_least((4, rows), (0, line))
+            self.assertEqual(value((0, line), [Fraction(*part) for part in result[1]]), found)
+        for count, more in (
+            (4, ((-1, (2, 7, -4, -9)), (-2, (3, 6, 5, 7)), (1, (12, 8, -2, -9)), (-1, (3, 7, 8, -5)))),
+            (4, ((0, (2, 11, 3, 5)), (0, (-10, -5, 7, -10)), (-2, (-6, -3, 7, 8)), (1, (-3, -2, -2, 3)),
+                 (1, (7, 7, -3, 0)))),
+            (4, ((0, (-11, -9, 12, 8)), (1, (2, -3, 0, -10)), (-1, (-11, -8, -1, -10)), (0, (-4, 10, 4, -1)))),
+            (5, ((-2, (-1, 0, -2, 5, -5)), (1, (-1, 2, -3, -1, 0)), (1, (2, 5, 4, 0, -2)), (0, (-4, -3, -3, 0, -5)),
+                 (0, (-3, -1, -3, 2, 3)))),
+            (5, ((1, (-12, -3, -7, 3, -10)), (-2, (-9, 5, -2, 11, -10)), (-2, (6, -5, 6, 9, 5)), (1, (4, -3, -10, 7, -4)))),
+        ):
+            rows = tuple(((0, ((unknown, 1),)), False) for unknown in range(count))
+            rows += (((-1, tuple((unknown, 1) for unknown in range(count))), False),)
+            rows += tuple(((const, tuple((unknown, n) for unknown, n in enumerate(each) if n)), False)
+                          for const, each in more)
+            self.assert_solved((count, rows))
+            self.assert_least((count, rows), (0, ((0, 1), (3, -1))))
 
     def test_cubes_that_are_pressed_in(self):
         for count in (4, 8):

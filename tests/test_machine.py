@@ -85,6 +85,10 @@ class EachInstructionTest(unittest.TestCase):
         # What is put on the stack anew is 0, whatever stood there.
         self.gives(0, ("push", 2), ("save", 0, 1), ("save", 1, 1), ("drop", 2), ("push", 2), ("load", 0, 1),
                    ("drop", 1), ("load", 0, 0), ("drop", 1))
+        written = [("save", i, 1) for i in range(3)]
+        for i in range(3):
+            self.gives(0, ("push", 3), *written, ("drop", 3), ("push", 3), ("load", 0, i), ("drop", 3))
+            self.gives(-2 if i == 2 else 0, ("push", 3), *written, ("drop", 2), ("push", 2), ("load", 0, i), ("drop", 3))
         self.gives(-2, ("push", 1), ("save", 0, 1), ("push", 1), ("save", 0, 0), ("drop", 1), ("load", 0, 0),
                    ("drop", 1))
 
