@@ -315,6 +315,22 @@ class EventsTest(JudgeCase):
         self.refuses(self.LESS, two, with_part(code, (0,), ("return",)), 0, 0)
         self.refuses(self.LESS, two, with_part(code, (0,), ("copy", 2, 3)), 0, 0)
 
+    def test_the_frames_of_two_branches_are_two(self):
+        two = ("whole",) * 2
+        # What one branch saves, or takes off its frame, is nothing to the other one.
+        code = (("push", 2), ("save", 1, 0), ("save", 0, 1), ("less", 0, 1, 8),
+                ("drop", 2), ("push", 2), ("drop", 2), ("return",),
+                ("load", 0, 0), ("sub", 2, 0, 0), ("load", 3, 1), ("add", 3, 3, 0), ("drop", 2), ("return",))
+        self.lets(self.LESS, two, code, (0, (4, 0, 2, 0)), (1, (4, 0, 2, 0)), (2, (6, 0, 2, 0)))
+        for i in (0, 1):
+            stale = code[:6] + (("load", 3, i), ("table", 3, (8,))) + code[6:8] + code[8:]
+            stale = with_part(stale, (3, 3), 10)
+            self.lets(self.LESS, two, stale, (0, (4, 0, 2, 0)), (1, (6, 0, 2, 0)), (2, (6, 0, 2, 0)))
+        saved = code[:4] + (("save", 0, 7), ("drop", 2), ("return",)) + code[8:]
+        self.refuses(self.LESS, two, with_part(saved, (3, 3), 7), 1, 4)
+        saved = code[:4] + (("set", 7, 5), ("save", 0, 7), ("save", 1, 7), ("drop", 2), ("return",)) + code[8:]
+        self.lets(self.LESS, two, with_part(saved, (3, 3), 9), (0, (4, 0, 2, 0)), (1, (5, 0, 2, 0)), (2, (6, 0, 2, 0)))
+
     def test_match(self):
         code = (("take", 3, 0, 0), ("table", 3, (2, 4)), ("copy", 0, 1), ("return",), ("take", 0, 0, 1), ("return",))
         params = ("Row", "whole")

@@ -314,9 +314,10 @@ class MergedTest(CompileCase):
         less = lambda at: (("less", 1, 2, at + 2), ("give", 1), ("give", 2))
         other = lambda at: (("less", 1, 2, at + 2), ("give", 2), ("give", 2))
         turned = lambda at: (("less", 2, 1, at + 2), ("give", 1), ("give", 2))
+        same = lambda at: (("less", 1, 1, at + 2), ("give", 1), ("give", 2))
         match = lambda at: (("match", 3, (("Left", (), at + 1), ("Right", (), at + 2))), ("give", 1), ("give", 2))
         for makes in ((less,) * 4, (match,) * 4, (less, match, less, match), (less, other, turned, less),
-                      (match, less, other, turned), (match, match, less, other)):
+                      (same, less, other, less), (match, less, same, turned), (match, match, less, other)):
             for ahead in ((), (("call", 399, "f", (0, 1, 2, 3)),)):
                 rows = ()
                 starts = []
