@@ -1,12 +1,10 @@
 """Exact lines: judges of points, multipliers and least values of systems, and what finds them."""
 
-from math import lcm
-
 from juststeps.errors import BadLine, BadSystem
 from juststeps.names import first_word, is_integer, is_tuple
-from juststeps.ratios import ratio
+from juststeps.outcomes import broken_row, falling_slope, least_multipliers, paper_of, point_of
 from juststeps.systems import are_multipliers, is_kept, is_line, is_point, is_system, slope_of, summed, value_at
-from juststeps.tableau import ONE, Tableau, make_kept, make_least
+from juststeps.tableau import Tableau, make_least
 
 
 def keeps(system, thing):
@@ -44,10 +42,10 @@ def solve(system):
     """("point", a point that keeps the system) or ("paper", multipliers that refute it)."""
     need_system(system)
     tableau = Tableau(system)
-    broken = _broken_row(tableau)
+    broken = broken_row(tableau)
     if broken is not None:
-        return "paper", _paper(tableau, broken)
-    return "point", _point(tableau)
+        return "paper", paper_of(tableau, broken)
+    return "point", point_of(tableau)
 
 
 def least(system, line):
@@ -55,17 +53,15 @@ def least(system, line):
     need_system(system)
     _need_line(system, line)
     tableau = Tableau(system)
-    broken = _broken_row(tableau)
+    broken = broken_row(tableau)
     if broken is not None:
-        return "paper", _paper(tableau, broken)
+        return "paper", paper_of(tableau, broken)
     goal = tableau.many
     tableau.relate_goal(goal, line)
-    entering = make_least(tableau, goal)
+    entering = make_least(tableau, goal, False)
     if entering is not None:
-        return "below", _point(tableau), _slope(tableau, goal, entering)
-    relation = tableau.relations[goal]
-    multipliers = [relation.get(tableau.count + row, 0) for row in range(tableau.many)]
-    return "least", _point(tableau), tableau.scale(goal), tuple(multipliers)
+        return "below", point_of(tableau), falling_slope(tableau, goal, entering)
+    return "least", point_of(tableau), tableau.scale(goal), least_multipliers(tableau, goal)
 
 
 def need_system(thing):
@@ -101,42 +97,3 @@ def _falls_along(system, line, slope):
         if rise < 0 or (exact and rise > 0):
             return False
     return slope_of(line, slope) < 0
-
-
-def _broken_row(tableau):
-    """The row that cannot be kept, or None behind the exchanges with which all rows are kept."""
-    broken = tableau.free_all()
-    return make_kept(tableau) if broken is None else broken
-
-
-def _paper(tableau, row):
-    """The multipliers that the relation of a row which cannot be kept tells."""
-    relation = tableau.relations[row]
-    sign = -1 if relation[ONE] < 0 else 1
-    return tuple([sign * relation.get(tableau.count + other, 0) for other in range(tableau.many)])
-
-
-def _point(tableau):
-    """The point at which all unknowns that are not basic are 0."""
-    point = [(0, 1)] * tableau.count
-    for row in tableau.basic:
-        if tableau.is_free(tableau.basic[row]):
-            point[tableau.basic[row]] = ratio(tableau.const(row), tableau.scale(row))
-    return tuple(point)
-
-
-def _slope(tableau, goal, entering):
-    """How the system's unknowns change with one that lets the goal's line fall."""
-    rows = [row for row in tableau.columns[entering] if tableau.is_free(tableau.basic[row])]
-    common = 1
-    for row in rows:
-        common = lcm(common, tableau.scale(row))
-    # A rest can only grow; one of the system's unknowns may go whichever way lets the line fall.
-    if tableau.relations[goal][entering] > 0:
-        common = -common
-    slope = [0] * tableau.count
-    for row in rows:
-        slope[tableau.basic[row]] = tableau.relations[row][entering] * common // tableau.scale(row)
-    if tableau.is_free(entering):
-        slope[entering] = common
-    return tuple(slope)

@@ -75,6 +75,12 @@ def need_args(core, place, thing):
         raise BadArgs("words of a value of the param's kind are wanted")
 
 
+def need_limit(thing):
+    """Raises BadLimit for any object that is no limit of a run."""
+    if not is_between(thing, 0, MOST_LIMIT):
+        raise BadLimit("an integer from 0 to 20000 is wanted")
+
+
 def _is_price_of(row, thing):
     if thing is None:
         return True
@@ -87,8 +93,7 @@ def _demanded_run(core, name, args, limit):
     """The run, behind the errors of its arguments; the core is judged already."""
     place = place_of(core, name)
     need_args(core, place, args)
-    if not is_between(limit, 0, MOST_LIMIT):
-        raise BadLimit("an integer from 0 to 20000 is wanted")
+    need_limit(limit)
     makers = makers_by_name(core[0])
     return run_of(core, place, [value_of(makers, words) for words in args], limit)
 

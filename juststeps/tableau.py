@@ -85,7 +85,8 @@ class Tableau:
         common = gcd(relation[unknown], adding[unknown])
         times = abs(adding[unknown]) // common
         plus = -relation[unknown] // common if adding[unknown] > 0 else relation[unknown] // common
-        found = {each: times * relation[each] for each in relation}
+        # Long relations are only copied if all of their numbers change.
+        found = relation if times == 1 else {each: times * relation[each] for each in relation}
         for each in adding:
             worth = found.get(each, 0) + plus * adding[each]
             if worth != 0:
@@ -202,10 +203,13 @@ def _entering(tableau, row, goal):
     return None if best is None else best[1]
 
 
-def make_least(tableau, goal):
-    """Exchanges unknowns until the goal's line is least; returns None, or the unknown along which it falls for ever."""
+def make_least(tableau, goal, until_below):
+    """Exchanges unknowns until the goal's line is least, or just until it is below 0, if that is enough.
+
+    Returns None, or the unknown along which the line falls for ever.
+    """
     idle = 0
-    while True:
+    while not until_below or tableau.const(goal) >= 0:
         entering = _falling(tableau, goal, idle > MOST_IDLE)
         if entering is None or tableau.is_free(entering):
             return entering
@@ -214,6 +218,7 @@ def make_least(tableau, goal):
             return entering
         idle = idle + 1 if tableau.const(row) == 0 else 0
         tableau.exchange(row, entering)
+    return None
 
 
 def _falling(tableau, goal, by_index):

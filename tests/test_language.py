@@ -25,6 +25,20 @@ INTERFACE = {
     "ratios": ("ratio(top, bottom)", "plus(a, b)", "minus(a, b)", "product(a, b)", "quotient(a, b)", "below(a, b)"),
     "lines": ("keeps(system, thing)", "refutes(system, thing)", "is_least(system, line, thing)", "solve(system)",
               "least(system, line)"),
+    "measures": ("measured(core, measures, number, words)", "never_below(core, measures)"),
+    "books": ("is_book(core, thing)", "claimed(core, book, index, args)", "left(core, book, index, words)",
+              "roomed(core, book, name, args)", "keeps_needs(core, book, name, args)", "bounds(core, book, name, args)"),
+    "duties": ("duties(core, prices, book)",),
+    "showing": ("show(never, goal, hints)", "is_open(never, goal, hints, thing)", "show_book(core, prices, book)"),
+    "judging": ("is_shown(never, goal, hints, thing)", "book_holds(core, prices, book, thing)",
+                "first_unshown(core, prices, book, showings)"),
+    "finding": ("claim_lines(core, prices, book, template)", "claims_at(core, prices, book, template, point)",
+                "find_claims(core, prices, book, template)", "best_claims(core, prices, book, template, name, weights)",
+                "with_claims(core, prices, book, showings, claims, more)", "rank_lines(core, prices, book, levels, ins)",
+                "ranks_at(core, prices, book, levels, ins, point)", "find_ranks(core, prices, book, levels, ins)",
+                "room_lines(core, prices, book, ins)", "rooms_at(core, prices, book, ins, point)",
+                "find_rooms(core, prices, book, ins)"),
+    "whole": ("built(text, log, effort)", "contradicted(source, log, image, book, showings, name, args, limit)"),
 }
 CAUGHT = {"checks": "NotChecked", "codejudge": "Refused"}
 LIBRARY = {"heapq": ("heappush", "heappop"), "math": ("gcd", "lcm")}
