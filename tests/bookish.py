@@ -381,3 +381,130 @@ def claim_of(core, measures, claim, call):
 
 def values_of(args):
     return [value_of(words) for words in args]
+
+
+def with_numbers(core, template, numbers):
+    """The claims of a template straight from [56], with integers for its unknowns; numbers is used up."""
+    relation, steps, words, shapes = template
+    numbers = list(numbers)
+    claims = []
+    for function, shape in zip(core[1], shapes):
+        if shape is not None:
+            const = numbers.pop(0)
+            ins = tuple(pair + (numbers.pop(0),) for pair in shape[1])
+            out = tuple((number, numbers.pop(0)) for number in shape[0])
+            claims.append((function[0], steps, words, tuple(term for term in out if term[1]), relation,
+                           (const, tuple(term for term in ins if term[2]))))
+    return tuple(claims)
+
+
+def forms_with_numbers(ins, numbers):
+    """The param forms of [61] for each function's ins, likewise."""
+    numbers = list(numbers)
+    forms = []
+    for pairs in ins:
+        const = numbers.pop(0)
+        terms = tuple(pair + (numbers.pop(0),) for pair in pairs)
+        forms.append((const, tuple(term for term in terms if term[2])))
+    return tuple(forms)
+
+
+def claims_of_duties(found, claims):
+    """For each duty the index of the claim to which it belongs, or None."""
+    indexes, waiting, last = [], [], None
+    for name, row, word, _, _ in found:
+        if (name, row) != last:
+            last = (name, row)
+            waiting = [(index, each) for index, claim in enumerate(claims) if claim[0] == name
+                       for each in (("most", "least") if claim[4] == "just" else (claim[4],))]
+        if word in ("most", "least"):
+            index, told = waiting.pop(0)
+            assert told == word
+            indexes.append(index)
+        else:
+            indexes.append(None)
+    return indexes
+
+
+def read_claim_lines(core, prices, book, template, never):
+    """The system of [57], from the duties with all unknowns 0 and with each one 1."""
+    shapes = [shape for shape in template[3] if shape is not None]
+    count = sum(1 + len(ins) + len(outs) for outs, ins in shapes)
+    first = len(book[2])
+
+    def told(numbers):
+        claims = book[2] + with_numbers(core, template, numbers)
+        found = read_duties(core, prices, book[:2] + (claims,) + book[3:])
+        indexes = claims_of_duties(found, claims)
+        return [duty for duty, index in zip(found, indexes) if index is not None and index >= first]
+
+    return read_lines(told, count, first, never, lambda duty: template[0] == "just" and duty[2] == "most")
+
+
+def read_form_lines(core, prices, book, ins, never, levels=None):
+    """The system of [61] for ranks, or without levels for rooms."""
+    count = sum(1 + len(pairs) for pairs in ins)
+
+    def told(numbers):
+        forms = forms_with_numbers(ins, numbers)
+        if levels is None:
+            changed = book[:3] + (None, forms)
+        else:
+            changed = book[:3] + (tuple(zip(levels, forms)), None)
+        words = ("top", "held") if levels is None else ("rank",)
+        return [duty for duty in read_duties(core, prices, changed) if duty[2] in words]
+
+    return read_lines(told, count, 30, never, lambda duty: False)
+
+
+def read_lines(told, count, first, never, plus):
+    units = [told([int(at == other) for other in range(count)]) for at in range(count)]
+    rows = []
+    top = count
+    for place, duty in enumerate(told([0] * count)):
+        versions = [duty] + [unit[place] for unit in units]
+        rest = Lines()
+        rest.take([version[3] for version in versions], 1)
+        atoms = {atom for version in versions for form in [version[3]] + [hint[0] for hint in version[4]] for atom, _ in form[1]}
+        for at, (form, exact, origin) in enumerate(duty[4]):
+            if origin is None or origin[1] < first:
+                rest.take_times(form, top)
+                if not exact:
+                    rows.append(((0, ((top, 1),)), False))
+                top += 1
+            else:
+                rest.take([version[4][at][0] for version in versions], 1 if plus(duty) else -1)
+        for atom in sorted(atoms):
+            rows.append((rest.line(atom), not (atom[0] == 1 or atom[2] in never)))
+        rows.append((rest.line(None), False))
+    return top, tuple(rows)
+
+
+class Lines:
+    """The lines of a rest by atom, None for the const."""
+
+    def __init__(self):
+        self.found = {}
+
+    def put(self, atom, unknown, number):
+        line = self.found.setdefault(atom, {})
+        line[unknown] = line.get(unknown, 0) + number
+
+    def take(self, versions, sign):
+        """Takes a form of which the first version has all unknowns 0, each other one another of them 1."""
+        base = {None: versions[0][0], **dict(versions[0][1])}
+        for atom, number in base.items():
+            self.put(atom, None, sign * number)
+        for unknown, (const, terms) in enumerate(versions[1:]):
+            other = {None: const, **dict(terms)}
+            for atom in set(base) | set(other):
+                self.put(atom, unknown, sign * (other.get(atom, 0) - base.get(atom, 0)))
+
+    def take_times(self, form, unknown):
+        for atom, number in ((None, form[0]),) + form[1]:
+            self.put(atom, unknown, -number)
+
+    def line(self, atom):
+        line = self.found.get(atom, {})
+        terms = sorted((unknown, number) for unknown, number in line.items() if unknown is not None and number != 0)
+        return line.get(None, 0), tuple(terms)
