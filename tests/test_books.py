@@ -7,7 +7,7 @@ from juststeps.books import bounds, claimed, is_book, keeps_needs, left, roomed
 from juststeps.lowering import lowered
 from juststeps.programs import is_program
 from tests.bookish import Drawer, told_of, values_of
-from tests.helper import BOX, JOIN, ROW, STRANGE, nested, places_of, row_words, with_part
+from tests.helper import BOX, JOIN, ROW, STRANGE, Other, nested, places_of, row_words, with_part
 from tests.test_measures import BAD_MEASURES, LENGTH, PAIRS
 
 BOOK = (
@@ -37,12 +37,12 @@ BAD_FORMS = STRANGE + (
 )
 BAD_CLAIMS = STRANGE + (
     CLAIM[:5], CLAIM + ((),), list(CLAIM), (None,) + CLAIM[1:], ("h",) + CLAIM[1:], (b"f",) + CLAIM[1:], ("g",) + CLAIM[1:],
-    (("f",),) + CLAIM[1:],
+    (("f",),) + CLAIM[1:], (Other(),) + CLAIM[1:],
 ) + tuple(with_part(CLAIM, (at,), other) for at in (1, 2) for other in (-1, True, None, "1", (1, 1), (1,))) + tuple(
     with_part(CLAIM, (3,), other) for other in (None, [], [(0, 1)], ((0, 0),), ((0, True),), ((0, "1"),), ((0, None),),
                                                 ((0,),), ((0, 1, 1),), ([0, 1],), ((1, 1),), ((False, 1),), ((-1, 1),),
                                                 ((0, 1), (0, 2)), ((0, 1), (1, 1)), ((None, 1),), (0, 1), 0)
-) + tuple(with_part(CLAIM, (4,), other) for other in (None, "", "Most", "exact", b"most", ("most",), True, 0)) + tuple(
+) + tuple(with_part(CLAIM, (4,), other) for other in (None, "", "Most", "exact", b"most", ("most",), True, 0, Other())) + tuple(
     with_part(CLAIM, (5,), other) for other in BAD_FORMS if repr(other) not in ("(0, ())",))
 
 

@@ -176,6 +176,10 @@ class IsOpenTest(ShowCase):
                 if is_open((1,), self.GOAL, self.HINTS, changed):
                     # Only another ratio at the first or the third atom is a point as well.
                     self.assertTrue(place in ((0, 1, 0), (0, 1, 1), (2, 1, 0), (2, 1, 1)) and other == -7, changed)
+        # Other atoms with right ratios, and entries with more parts.
+        for at, atom in ((0, (0, -1, 0)), (1, (0, 0, 2)), (2, (0, 1, 2)), (3, (1, 2, 1)), (0, (0, 0, False))):
+            self.assertIs(is_open((1,), self.GOAL, self.HINTS, with_part(self.POINT, (at, 0), atom)), False)
+            self.assertIs(is_open((1,), self.GOAL, self.HINTS, with_part(self.POINT, (at,), self.POINT[at] + (1,))), False)
         self.assertIs(is_open((), (-1, ()), (), ()), True)
         self.assertIs(is_open((), (0, ()), (), ()), False)
 

@@ -1,8 +1,9 @@
 """[2], [3], [62], [64] to [72], whole programs from text to formula, and the interface's section juststeps/whole.py."""
 
 import unittest
+from unittest import mock
 
-from juststeps import errors, whole
+from juststeps import errors
 from juststeps.books import bounds, claimed, keeps_needs, left, roomed
 from juststeps.codejudge import judge_code
 from juststeps.compiling import compile_core
@@ -461,19 +462,35 @@ class ContradictedTest(WholeCase):
         self.assertEqual(run_image(self.core, image, "down", ((3000,),), 10 ** 6)[0], "spent")
 
     def test_words_that_never_are_returned(self):
-        """What would be told of runs that are not as they are promised."""
-        ended = ("ended", (5,), 10, 2, 3)
-        self.assertIsNone(whole._word_of_run((5,), ended, ended))
-        for found, word in ((("spent", None) + ended[2:], "end"), (("ended", (6,)) + ended[2:], "end"), (("fault", (5,)) + ended[2:], "end"),
-                            (ended[:2] + (11, 3, 4), "steps"), (ended[:3] + (3, 4), "words"), (ended[:4] + (4,), "top")):
-            self.assertEqual(whole._word_of_run((5,), ended, found), word)
-        claims = (("down", 1, 0, (), "most", (10, ())), ("down", 0, 1, ((0, 1),), "just", (7, ())), ("down", 1, 1, (), "least", (12, ())))
-        book = ((), ((),), claims, None, ((3, ()),))
-        for found, word in ((ended, None), (("ended", None) + ended[2:], None), (("ended", (4,)) + ended[2:], "claim"),
-                            (("ended", (6,)) + ended[2:], "claim"), (("ended", (5,), 11, 2, 3), "claim"), (("ended", (5,), 9, 2, 3), "claim"),
-                            (("ended", (6,), 10, 1, 3), "claim"), (ended[:4] + (4,), "room"), (("ended", None, 11, 2, 4), "claim")):
-            self.assertEqual(whole._word_of_book(self.core, book, "down", ((4,),), found), word)
-        self.assertIsNone(whole._word_of_book(self.core, book[:4] + (None,), "down", ((4,),), ended[:4] + (400,)))
+        """What would be told if the machine's run, or the priced one, were not as it is promised."""
+        args = ((4,),)
+        ended = run_image(self.core, self.image, "down", args, 10 ** 6)
+        _, value, steps, words, top = ended
+        for found, word in ((ended, None), (("spent", None) + ended[2:], "end"), (("ended", None) + ended[2:], "end"),
+                            (("ended", (value[0] + 1,)) + ended[2:], "end"), (("fault", value) + ended[2:], "end"),
+                            (ended[:2] + (steps + 1, words + 1, top + 1), "steps"), (ended[:3] + (words + 1, top + 1), "words"),
+                            (ended[:4] + (top + 1,), "top")):
+            with mock.patch("juststeps.whole.run_image", lambda *given: found):
+                self.assertEqual(self.word(args=args), word)
+        for claim, word in ((("most", steps), None), (("most", steps - 1), "claim"), (("least", steps), None), (("least", steps + 1), "claim"),
+                            (("just", steps), None), (("just", steps + 1), "claim"), (("just", steps - 1), "claim")):
+            for more in ((), (("down", 0, 1, ((0, 1),), "just", (words + value[0], ())),)):
+                book = self.book[:2] + ((("down", 1, 0, (), claim[0], (claim[1], ())),) + more, None, None)
+                with mock.patch("juststeps.whole.book_holds", lambda *given: True):
+                    self.assertEqual(self.word(book=book, args=args), word)
+        for claim, word in ((("down", 2, 3, ((0, 5),), "just", (2 * steps + 3 * words + 5 * value[0], ())), None),
+                            (("down", 2, 3, ((0, 5),), "just", (2 * steps + 3 * words + 5 * value[0] + 1, ())), "claim")):
+            with mock.patch("juststeps.whole.book_holds", lambda *given: True):
+                self.assertEqual(self.word(book=self.book[:2] + ((claim,), None, None), args=args), word)
+        for const, word in ((top, None), (top - 1, "room")):
+            with mock.patch("juststeps.whole.book_holds", lambda *given: True):
+                self.assertEqual(self.word(book=self.book[:4] + (((const, ()),),), args=args), word)
+
+    def test_a_million_steps_and_one_more(self):
+        foretold = run_priced(self.core, self.prices, "down", ((4,),), 20000)
+        for steps, word in ((10 ** 6, "steps"), (10 ** 6 + 1, None)):
+            with mock.patch("juststeps.whole.run_priced", lambda *given: foretold[:2] + (steps,) + foretold[3:]):
+                self.assertEqual(self.word(), word)
 
     def test_errors_in_their_sequence(self):
         nothing = (None,) * 8
