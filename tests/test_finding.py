@@ -222,6 +222,45 @@ class ClaimsAtTest(FindCase):
         self.assertGreater(min(list(words.values()) + [numbers]), 15, (words, numbers))
 
 
+class FoundOrRefutedTest(FindCase):
+    """[71]: the claims of a template that are shown are those at points of its system."""
+
+    def holds(self, claim):
+        return show_book(JOIN, JOIN_PRICES, with_book(B0, (claim,)))[0] == "shown"
+
+    def test_claims_of_steps_that_are_shown(self):
+        for relation in ("most", "least", "just"):
+            system = claim_lines(JOIN, JOIN_PRICES, B0, (relation, 1, 0, T[3]))
+            shown = 0
+            for const in range(1, 8):
+                for times in range(13, 20):
+                    right = self.holds(("join", 1, 0, (), relation, (const, ((0, 1, times),))))
+                    self.assertIs(keeps(system, ((const, 1), (times, 1))), right)
+                    # Taken twice they are the claims at the half of the numbers.
+                    half = tuple((number, 2) if number & 1 else (number // 2, 1) for number in (const + 4, times + 16))
+                    twice = self.holds(("join", 2, 0, (), relation, (const + 4, ((0, 1, times + 16),))))
+                    self.assertIs(keeps(system, half), twice)
+                    shown += right
+            self.assertEqual(shown, {"most": 16, "least": 16, "just": 1}[relation])
+
+    def test_claims_that_are_refuted(self):
+        self.assertEqual(find_claims(JOIN, JOIN_PRICES, B0, ("most", 1, 0, (((), ()),)))[0], "paper")
+        self.assertEqual(find_claims(JOIN, JOIN_PRICES, B0, ("just", 1, 0, (((), ((1, 1),)),)))[0], "paper")
+        for const in (-1, 0, 4, 20, 10 ** 9):
+            self.assertFalse(self.holds(("join", 1, 0, (), "most", (const, ()))))
+            for times in (-1, 1, 16, 10 ** 9):
+                self.assertFalse(self.holds(("join", 1, 0, (), "just", (const, ((1, 1, times),)))))
+
+    def test_claims_of_values_that_are_shown(self):
+        system = claim_lines(JOIN, JOIN_PRICES, B0, ("just", 0, 0, (((1,), BOTH),)))
+        for numbers in ((0, 1, 1, 1), (0, 2, 2, 2), (0, 1, 1, 2), (0, 0, 1, 1), (1, 1, 1, 1), (0, -3, -3, -3), (0, 1, 2, 2), (5, 0, 0, 0)):
+            const, one, two, out = numbers
+            terms = tuple(term for term in ((0, 1, one), (1, 1, two)) if term[2])
+            right = self.holds(("join", 0, 0, ((1, out),) if out else (), "just", (const, terms)))
+            self.assertIs(keeps(system, tuple((number, 1) for number in numbers)), right, numbers)
+            self.assertIs(right, numbers in ((0, 1, 1, 1), (0, 2, 2, 2), (0, -3, -3, -3)))
+
+
 class BestTest(FindCase):
     def test_lines_of_each_relation(self):
         for relation, sign in (("most", 1), ("just", 1), ("least", -1)):
