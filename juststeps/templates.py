@@ -6,7 +6,7 @@ from juststeps.measures import kinds_of
 from juststeps.names import is_between, is_tuple
 from juststeps.telling import Claim
 
-MOST_TAKEN = 10 ** 6
+MOST_TAKEN = 1000
 
 
 def need_template(core, book, thing):

@@ -51,7 +51,7 @@ BAD_TEMPLATES = STRANGE + (
     list(TEMPLATE), TEMPLATE[:3], TEMPLATE + (None,), ("just", 1, 2, (None,) * 3), ("just", 1, 2, SHAPES[:2]), ("just", 1, 2, SHAPES + (None,)),
     ("just", 1, 2, list(SHAPES)), ("just", 1, 2, None), ("just", 1, 2, ()), nested(70),
 ) + tuple(with_part(TEMPLATE, (0,), other) for other in (None, "", "Just", b"just", True, ("just",), "exact", Other())) + tuple(
-    with_part(TEMPLATE, (at,), other) for at in (1, 2) for other in (None, True, -1, 10 ** 6 + 1, "1", (1,), Other())) + tuple(
+    with_part(TEMPLATE, (at,), other) for at in (1, 2) for other in (None, True, -1, 1001, 10 ** 6, "1", (1,), Other())) + tuple(
     with_part(TEMPLATE, (3, 0), other) for other in ((), ((), (), ()), ((),), [(), ()], False, 0, "", Other())) + tuple(
     with_part(TEMPLATE, (3, 0, 0), other) for other in BAD_OUTS) + tuple(
     with_part(TEMPLATE, (3, 0, 1), other) for other in BAD_INS)
@@ -160,8 +160,33 @@ class LinesTest(FindCase):
                 self.assertEqual(claim_lines(MANY, flat_prices(MANY), book, TEMPLATE)[0], 10)
             else:
                 self.assert_raises(errors.BadTemplate, claim_lines, MANY, flat_prices(MANY), book, TEMPLATE)
-        for steps, words in ((0, 0), (10 ** 6, 10 ** 6)):
-            self.assertEqual(find_claims(JOIN, JOIN_PRICES, B0, ("most", steps, words, T[3]))[0], "found")
+
+    def test_steps_and_words_up_to_a_thousand(self):
+        for relation in ("most", "least", "just"):
+            for steps, words in ((0, 0), (1000, 0), (0, 1000), (1000, 1000)):
+                template = (relation, steps, words, T[3])
+                system = claim_lines(JOIN, JOIN_PRICES, B0, template)
+                self.assertEqual(system, read_claim_lines(JOIN, JOIN_PRICES, B0, template, (1,)))
+                self.assertEqual(find_claims(JOIN, JOIN_PRICES, B0, template)[0], "found")
+                best = best_claims(JOIN, JOIN_PRICES, B0, template, "join", (10,))
+                sign = -1 if relation == "least" else 1
+                self.assertTrue(is_least(system, (0, ((0, sign), (1, 10 * sign))), best))
+                # Of join a run has 16 steps and 3 words for each entry, and 4 steps more.
+                claim = ("join", steps, words, (), relation, (4 * steps, ((0, 1, 16 * steps + 3 * words),) if steps + words else ()))
+                point = ((4 * steps, 1), (16 * steps + 3 * words, 1))
+                self.assertEqual(claims_at(JOIN, JOIN_PRICES, B0, template, point)[0], (claim,))
+            for steps, words in ((1001, 0), (0, 1001), (1001, 1001), (1000, 1001), (1001, 1000), (10 ** 6, 0), (0, 10 ** 6)):
+                template = (relation, steps, words, T[3])
+                for call, more in ((claim_lines, ()), (claims_at, (((0, 1), (0, 1)),)), (find_claims, ()),
+                                   (best_claims, ("join", (10,))), (best_claims, ("none", None))):
+                    self.assert_raises(errors.BadTemplate, call, JOIN, JOIN_PRICES, B0, template, *more)
+
+    def test_claims_of_points_may_have_more_than_a_thousand_steps(self):
+        # The bound is that of templates; claims of books have none.
+        great = 10 ** 30
+        claims, showings = claims_at(JOIN, JOIN_PRICES, B0, ("most", 1000, 1000, T[3]), ((4000 * great + 1, great), (19000, 1)))
+        self.assertEqual(claims, (("join", 1000 * great, 1000 * great, (), "most", (4000 * great + 1, ((0, 1, 19000 * great),))),))
+        self.assertTrue(self.new_showings_show(JOIN, JOIN_PRICES, with_book(B0, claims), 0, showings))
 
 
 class ClaimsAtTest(FindCase):
